@@ -1,0 +1,85 @@
+// Package quarto: rectangles in an index on a disk: see DOC.md.
+package quarto
+
+import (
+	"quarto/api"
+	"quarto/grid"
+)
+
+// Disk is sectors, and what was written and is not safe.
+type Disk struct{}
+
+// Index is rectangles by numbers.
+type Index struct{}
+
+// Code tells a point's code (P3).
+func Code(x int, y int) int {
+	if !grid.OnGrid(x, y) {
+		return -1
+	}
+	return grid.Code(x, y)
+}
+
+// Cover tells the cells of a rectangle (P4).
+func Cover(r api.Rect) ([]api.Cell, api.Errno) {
+	if !grid.Right(r) {
+		return nil, api.ErrRect
+	}
+	return grid.Cover(r), api.OK
+}
+
+// Next tells the next code within a window (P4).
+func Next(code int, w api.Rect) (int, api.Errno) {
+	if code < 0 || code >= grid.Codes {
+		return 0, api.ErrArg
+	}
+	if !grid.Right(w) {
+		return 0, api.ErrRect
+	}
+	return grid.Next(code, w), api.OK
+}
+
+// NewDisk makes a disk (P5).
+func NewDisk(sectors int) (*Disk, api.Errno) { return nil, api.OK }
+
+// LoadDisk makes a disk of bytes (P5).
+func LoadDisk(image string) (*Disk, api.Errno) { return nil, api.OK }
+
+// Read reads a sector (P5).
+func (d *Disk) Read(i int) (string, api.Errno) { return "", api.OK }
+
+// Write writes a sector (P5).
+func (d *Disk) Write(i int, bytes string) api.Errno { return api.OK }
+
+// Flush makes safe what was written (P5).
+func (d *Disk) Flush() api.Errno { return api.OK }
+
+// Break lets the disk fail (P5).
+func (d *Disk) Break(n int) api.Errno { return api.OK }
+
+// Crash lets it lose what is not safe, and work again (P5).
+func (d *Disk) Crash(keep []int) api.Errno { return api.OK }
+
+// Image tells what is safe (P5).
+func (d *Disk) Image() (string, api.Errno) { return "", api.OK }
+
+// Steps tells how many reads and writes there were (P5).
+func (d *Disk) Steps() (int, api.Errno) { return 0, api.OK }
+
+// Open opens the index on a disk (P6).
+func Open(d *Disk) (*Index, api.Errno) { return nil, api.OK }
+
+// Put puts a rectangle in (P7).
+func (x *Index) Put(id int, r api.Rect) api.Errno { return api.OK }
+
+// Delete takes a rectangle out (P7).
+func (x *Index) Delete(id int) api.Errno { return api.OK }
+
+// Get tells a rectangle (P7).
+func (x *Index) Get(id int) (api.Rect, api.Errno) { return api.Rect{}, api.OK }
+
+// Window tells the rectangles that meet a window (P7).
+func (x *Index) Window(w api.Rect) ([]int, api.Errno) { return nil, api.OK }
+
+// Count tells how many rectangles there are (P7).
+func (x *Index) Count() (int, api.Errno) { return 0, api.OK }
