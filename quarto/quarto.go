@@ -3,11 +3,14 @@ package quarto
 
 import (
 	"quarto/api"
+	"quarto/disk"
 	"quarto/grid"
 )
 
 // Disk is sectors, and what was written and is not safe.
-type Disk struct{}
+type Disk struct {
+	inner *disk.Disk
+}
 
 // Index is rectangles by numbers.
 type Index struct{}
@@ -40,31 +43,79 @@ func Next(code int, w api.Rect) (int, api.Errno) {
 }
 
 // NewDisk makes a disk (P5).
-func NewDisk(sectors int) (*Disk, api.Errno) { return nil, api.OK }
+func NewDisk(sectors int) (*Disk, api.Errno) {
+	return hold(disk.New(sectors))
+}
 
 // LoadDisk makes a disk of bytes (P5).
-func LoadDisk(image string) (*Disk, api.Errno) { return nil, api.OK }
+func LoadDisk(image string) (*Disk, api.Errno) {
+	return hold(disk.Load(image))
+}
+
+// hold makes a Disk of a disk that was made, and nil of one that was not.
+func hold(made *disk.Disk, e api.Errno) (*Disk, api.Errno) {
+	if e != api.OK {
+		return nil, e
+	}
+	return &Disk{inner: made}, api.OK
+}
 
 // Read reads a sector (P5).
-func (d *Disk) Read(i int) (string, api.Errno) { return "", api.OK }
+func (d *Disk) Read(i int) (string, api.Errno) {
+	if d == nil {
+		return "", api.ErrNil
+	}
+	return d.inner.Read(i)
+}
 
 // Write writes a sector (P5).
-func (d *Disk) Write(i int, bytes string) api.Errno { return api.OK }
+func (d *Disk) Write(i int, bytes string) api.Errno {
+	if d == nil {
+		return api.ErrNil
+	}
+	return d.inner.Write(i, bytes)
+}
 
 // Flush makes safe what was written (P5).
-func (d *Disk) Flush() api.Errno { return api.OK }
+func (d *Disk) Flush() api.Errno {
+	if d == nil {
+		return api.ErrNil
+	}
+	return d.inner.Flush()
+}
 
 // Break lets the disk fail (P5).
-func (d *Disk) Break(n int) api.Errno { return api.OK }
+func (d *Disk) Break(n int) api.Errno {
+	if d == nil {
+		return api.ErrNil
+	}
+	return d.inner.Break(n)
+}
 
 // Crash lets it lose what is not safe, and work again (P5).
-func (d *Disk) Crash(keep []int) api.Errno { return api.OK }
+func (d *Disk) Crash(keep []int) api.Errno {
+	if d == nil {
+		return api.ErrNil
+	}
+	d.inner.Crash(keep)
+	return api.OK
+}
 
 // Image tells what is safe (P5).
-func (d *Disk) Image() (string, api.Errno) { return "", api.OK }
+func (d *Disk) Image() (string, api.Errno) {
+	if d == nil {
+		return "", api.ErrNil
+	}
+	return d.inner.Image(), api.OK
+}
 
 // Steps tells how many reads and writes there were (P5).
-func (d *Disk) Steps() (int, api.Errno) { return 0, api.OK }
+func (d *Disk) Steps() (int, api.Errno) {
+	if d == nil {
+		return 0, api.ErrNil
+	}
+	return d.inner.Steps(), api.OK
+}
 
 // Open opens the index on a disk (P6).
 func Open(d *Disk) (*Index, api.Errno) { return nil, api.OK }
