@@ -46,6 +46,11 @@ func Load(image string) (*Disk, api.Errno) {
 	return d, api.OK
 }
 
+// Sectors tells how many sectors there are.
+func (d *Disk) Sectors() int {
+	return len(d.sectors)
+}
+
 // Read tells the bytes of a sector.
 func (d *Disk) Read(i int) (string, api.Errno) {
 	if !d.has(i) {

@@ -45,11 +45,17 @@ func point(code int) (int, int) {
 	return x, y
 }
 
-// square tells the points of a cell.
-func square(c api.Cell) api.Rect {
+// Square tells the points of a cell.
+func Square(c api.Cell) api.Rect {
 	x, y := point(c.Code)
 	last := 1<<c.Size - 1
 	return api.Rect{X1: x, Y1: y, X2: x + last, Y2: y + last}
+}
+
+// Meet tells whether two right rectangles have a point in common.
+func Meet(a api.Rect, b api.Rect) bool {
+	_, ok := common(a, b)
+	return ok
 }
 
 // common tells the points that two right rectangles have in common, and whether there are any.
@@ -92,7 +98,7 @@ func coverSize(r api.Rect) int {
 func Next(code int, w api.Rect) int {
 	for cell := range cellsFrom(code) {
 		// Codes rise with x and with y, so the first corner has the least one.
-		if both, ok := common(square(cell), w); ok {
+		if both, ok := common(Square(cell), w); ok {
 			return Code(both.X1, both.Y1)
 		}
 	}

@@ -24,8 +24,8 @@ func TestSquare(t *testing.T) {
 		{api.Cell{Code: 12, Size: 1}, api.Rect{X1: 2, Y1: 2, X2: 3, Y2: 3}},
 		{api.Cell{Code: 3 << 30, Size: 15}, api.Rect{X1: 32768, Y1: 32768, X2: 65535, Y2: 65535}},
 	} {
-		if got := square(c.cell); got != c.want {
-			t.Errorf("square(%v) = %v, want %v", c.cell, got, c.want)
+		if got := Square(c.cell); got != c.want {
+			t.Errorf("Square(%v) = %v, want %v", c.cell, got, c.want)
 		}
 	}
 }

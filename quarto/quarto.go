@@ -5,6 +5,7 @@ import (
 	"quarto/api"
 	"quarto/disk"
 	"quarto/grid"
+	"quarto/index"
 )
 
 // Disk is sectors, and what was written and is not safe.
@@ -13,7 +14,9 @@ type Disk struct {
 }
 
 // Index is rectangles by numbers.
-type Index struct{}
+type Index struct {
+	inner *index.Index
+}
 
 // Code tells a point's code (P3).
 func Code(x int, y int) int {
@@ -118,19 +121,53 @@ func (d *Disk) Steps() (int, api.Errno) {
 }
 
 // Open opens the index on a disk (P6).
-func Open(d *Disk) (*Index, api.Errno) { return nil, api.OK }
+func Open(d *Disk) (*Index, api.Errno) {
+	if d == nil {
+		return nil, api.ErrNil
+	}
+	opened, e := index.Open(d.inner)
+	if e != api.OK {
+		return nil, e
+	}
+	return &Index{inner: opened}, api.OK
+}
 
 // Put puts a rectangle in (P7).
-func (x *Index) Put(id int, r api.Rect) api.Errno { return api.OK }
+func (x *Index) Put(id int, r api.Rect) api.Errno {
+	if x == nil {
+		return api.ErrNil
+	}
+	return x.inner.Put(id, r)
+}
 
 // Delete takes a rectangle out (P7).
-func (x *Index) Delete(id int) api.Errno { return api.OK }
+func (x *Index) Delete(id int) api.Errno {
+	if x == nil {
+		return api.ErrNil
+	}
+	return x.inner.Delete(id)
+}
 
 // Get tells a rectangle (P7).
-func (x *Index) Get(id int) (api.Rect, api.Errno) { return api.Rect{}, api.OK }
+func (x *Index) Get(id int) (api.Rect, api.Errno) {
+	if x == nil {
+		return api.Rect{}, api.ErrNil
+	}
+	return x.inner.Get(id)
+}
 
 // Window tells the rectangles that meet a window (P7).
-func (x *Index) Window(w api.Rect) ([]int, api.Errno) { return nil, api.OK }
+func (x *Index) Window(w api.Rect) ([]int, api.Errno) {
+	if x == nil {
+		return nil, api.ErrNil
+	}
+	return x.inner.Window(w)
+}
 
 // Count tells how many rectangles there are (P7).
-func (x *Index) Count() (int, api.Errno) { return 0, api.OK }
+func (x *Index) Count() (int, api.Errno) {
+	if x == nil {
+		return 0, api.ErrNil
+	}
+	return x.inner.Count()
+}
