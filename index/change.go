@@ -8,6 +8,9 @@ import (
 // spare is how many sectors a Put leaves free, so that a Delete finds room, in
 // an index however full. It takes out five entries at most, of a tree that is
 // at most five nodes high, and writes two nodes at most for each that it goes through.
+//
+// By the same count a Put, which takes out five entries and puts in five, reads
+// and writes fewer than 200 sectors: so no call comes near to api.MaxSteps.
 const spare = 50
 
 func (x *Index) put(id int, r api.Rect) api.Errno {

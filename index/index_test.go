@@ -208,3 +208,26 @@ func ids(count int) []int {
 	}
 	return all
 }
+
+// TestStepsOfTheHighestTree puts rectangles in by rising numbers, at one place,
+// which leaves as little in each node as may be, and lets them go to another.
+func TestStepsOfTheHighestTree(t *testing.T) {
+	d, _ := disk.New(api.MaxSectors)
+	x, e := Open(d)
+	if e != api.OK {
+		t.Fatal(e)
+	}
+	here := api.Rect{X1: 32767, Y1: 32767, X2: 32768, Y2: 32768}
+	there := api.Rect{X1: 16383, Y1: 16383, X2: 49152, Y2: 49152}
+	for _, r := range []api.Rect{here, there, here} {
+		for id := range 2000 {
+			ahead := d.Steps()
+			if e := x.Put(id, r); e != api.OK {
+				t.Fatal(e)
+			}
+			if steps := d.Steps() - ahead; steps >= 200 {
+				t.Fatalf("Put(%d, %v) causes %d reads and writes", id, r, steps)
+			}
+		}
+	}
+}

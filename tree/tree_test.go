@@ -353,3 +353,62 @@ func TestCommitBreaks(t *testing.T) {
 		}
 	}
 }
+
+// heightOf tells how many nodes stand below one another.
+func heightOf(t *testing.T, tree *Tree) int {
+	t.Helper()
+	sector, e := tree.root()
+	height := 0
+	for e == api.OK && sector != none {
+		var n node
+		if n, e = tree.read(sector); e != api.OK {
+			break
+		}
+		height++
+		sector = none
+		if b, ok := n.(branch); ok {
+			sector = b.row[0].Value
+		}
+	}
+	if e != api.OK {
+		t.Fatalf("a node: %d", e)
+	}
+	return height
+}
+
+// wantFewSteps makes a change of one key: it goes down to a leaf once, reads
+// one node beside each that it goes through, and writes two for each of them.
+func wantFewSteps(t *testing.T, d *disk.Disk, tree *Tree, edit func(c *Change) api.Errno) {
+	t.Helper()
+	height := heightOf(t, tree)
+	ahead := d.Steps()
+	c := change(t, tree)
+	if e := edit(c); e != api.OK {
+		t.Fatalf("an edit: %d", e)
+	}
+	read := d.Steps() - ahead
+	wantCommit(t, c, 0, api.OK)
+	wrote := d.Steps() - ahead - read
+	// The head, and of the root none beside it; and a root above that, if it was split.
+	if read > 1+height+max(height-1, 0) || wrote > 1+2*height+1 {
+		t.Fatalf("a change of a tree that is %d high reads %d sectors and writes %d", height, read, wrote)
+	}
+}
+
+// TestStepsOfAChange lets a tree grow, with as little in each node as may be, and shrink from its middle.
+func TestStepsOfAChange(t *testing.T) {
+	d, _ := disk.New(api.MaxSectors)
+	tree := wantOpen(t, d)
+	const most = 5000
+	for n := range most {
+		wantFewSteps(t, d, tree, func(c *Change) api.Errno { return c.Put(Entry{Key{1, n}, aRect(1)}) })
+	}
+	if height := heightOf(t, tree); height != 5 {
+		t.Errorf("a tree of %d entries is %d high", most, height)
+	}
+	for n := range most {
+		key := Key{1, (n + most/2) % most}
+		wantFewSteps(t, d, tree, func(c *Change) api.Errno { return c.Delete(key) })
+	}
+	wantEntries(t, tree, Key{}, nil)
+}
